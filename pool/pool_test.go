@@ -249,12 +249,12 @@ func TestEveryOwnerHasItsWindow(t *testing.T) {
 
 // P8.2
 
-// TestEveryCallOfEveryState goes through all states of small pools: each call is done in each of them.
+// TestEveryCallOfEveryState goes through all states of pools of up to 3 colours, and those of 5 that two owners may have: each call is done in each of them.
 func TestEveryCallOfEveryState(t *testing.T) {
-	all := states(1, 0, 1, 2, 3, 4, 5, 6, 7)
-	all = append(all, states(2, 0, 1, 2, 3, 4, 5, 6, 7)...)
-	all = append(all, states(3, 0, 3, 7)...)
-	all = append(all, states(5, 0, 7)...)
+	all := states(5, 0, 7)
+	for n := 1; n <= 3; n++ {
+		all = append(all, states(n, 0, 1, 2, 3, 4, 5, 6, 7)...)
+	}
 	for _, state := range all {
 		p, w := brought(t, state)
 		for owner := -2; owner <= 9; owner++ {
